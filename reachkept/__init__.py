@@ -1,0 +1,1 @@
+"""Reachkept: programs that keep what they reach, however they are run."""

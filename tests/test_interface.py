@@ -1,0 +1,55 @@
+"""Whether the names of the document's interface stand where it lists them, with the arguments it tells."""
+
+import ast
+import pathlib
+import unittest
+
+PACKAGE = pathlib.Path(__file__).resolve().parent.parent / "reachkept"
+
+FUNCTIONS = {
+    "kinds": {"is_integer": ["thing"], "is_name": ["thing"], "is_value": ["thing"]},
+    "forms": {"is_expression": ["thing"], "is_statement": ["thing"], "is_body": ["thing"], "is_module": ["thing"]},
+    "scopes": {"owned": ["givens", "body"], "loose": ["names", "body"], "misplaced": ["body", "kind"],
+               "many": ["body"]},
+}
+
+CLASSES = {
+    "heaps": {"Heap": {
+        "__init__": [], "__eq__": ["other"], "__len__": [], "new": ["fields"], "fields": ["number"],
+        "get": ["number", "field"], "has": ["number", "field"], "put": ["number", "field", "value"], "numbers": [],
+        "free": ["numbers"], "reached": ["values"], "copied": []}},
+}
+
+
+def arguments(function):
+    return [argument.arg for argument in function.args.args]
+
+
+def parsed(module):
+    return ast.parse((PACKAGE / (module + ".py")).read_text(encoding="utf-8")).body
+
+
+class TestInterface(unittest.TestCase):
+    def test_functions_are_defined_in_their_files(self):
+        for module, functions in FUNCTIONS.items():
+            found = {node.name: arguments(node) for node in parsed(module) if isinstance(node, ast.FunctionDef)}
+            for name, expected in functions.items():
+                self.assertEqual(found.get(name), expected, (module, name))
+
+    def test_classes_are_defined_in_their_files_with_their_methods(self):
+        for module, classes in CLASSES.items():
+            found = {node.name: node for node in parsed(module) if isinstance(node, ast.ClassDef)}
+            for name, methods in classes.items():
+                inside = {node.name: arguments(node)[1:] for node in found[name].body
+                          if isinstance(node, ast.FunctionDef)}
+                for method, expected in methods.items():
+                    self.assertEqual(inside.get(method), expected, (module, name, method))
+
+    def test_the_package_is_one_folder_of_python_files(self):
+        for path in PACKAGE.iterdir():
+            if path.name != "__pycache__":
+                self.assertEqual(path.suffix, ".py", path.name)
+
+
+if __name__ == "__main__":
+    unittest.main()
