@@ -11,6 +11,11 @@ FUNCTIONS = {
     "forms": {"is_expression": ["thing"], "is_statement": ["thing"], "is_body": ["thing"], "is_module": ["thing"]},
     "scopes": {"owned": ["givens", "body"], "loose": ["names", "body"], "misplaced": ["body", "kind"],
                "many": ["body"]},
+    "likeness": {"matched": ["one", "ones", "other", "others"], "packed": ["heap", "values"]},
+    "reading": {"read": ["program", "ticks"]},
+    "watching": {"watched": ["program", "ticks", "module", "name"], "deepest": ["program", "ticks"],
+                 "thrown": ["program", "ticks"]},
+    "codes": {"is_op": ["thing"], "is_codes": ["thing"]},
 }
 
 CLASSES = {
@@ -18,6 +23,9 @@ CLASSES = {
         "__init__": [], "__eq__": ["other"], "__len__": [], "new": ["fields"], "fields": ["number"],
         "get": ["number", "field"], "has": ["number", "field"], "put": ["number", "field", "value"], "numbers": [],
         "free": ["numbers"], "reached": ["values"], "copied": []}},
+    "programs": {"Program": {
+        "__init__": ["modules", "main"], "__eq__": ["other"], "main": [], "modules": [], "module": ["name"],
+        "order": [], "leads": ["name"], "with_module": ["name", "module"]}},
 }
 
 
