@@ -144,7 +144,7 @@ def _tell(run, node, values):
 
 
 def _do(run, node, values):
-    return
+    pass
 
 
 def _if(run, node, values):

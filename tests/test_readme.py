@@ -7,7 +7,9 @@ README = pathlib.Path(__file__).resolve().parent.parent / "README.md"
 
 class TestReadme(unittest.TestCase):
     def test_its_examples(self):
-        failed, tried = doctest.testfile(str(README), module_relative=False, encoding="utf-8", verbose=False)
+        text = README.read_text(encoding="utf-8").replace("```\n", "\n")
+        test = doctest.DocTestParser().get_doctest(text, {}, "README.md", str(README), 0)
+        failed, tried = doctest.DocTestRunner(verbose=False).run(test)
         self.assertEqual(failed, 0)
         self.assertGreater(tried, 5)
 
