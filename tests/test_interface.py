@@ -16,6 +16,14 @@ FUNCTIONS = {
     "watching": {"watched": ["program", "ticks", "module", "name"], "deepest": ["program", "ticks"],
                  "thrown": ["program", "ticks"]},
     "codes": {"is_op": ["thing"], "is_codes": ["thing"]},
+    "checking": {"faults": ["codes"], "unmet": ["codes"], "is_sound": ["codes"],
+                 "open_tries": ["codes", "code", "op"]},
+    "compiling": {"compiled": ["program"], "variable": ["program", "codes", "module", "name"]},
+    "frames": {"kind_of": ["heap", "value"], "told_of": ["heap", "value"], "chain": ["heap"],
+               "is_state": ["codes", "heap"]},
+    "runs": {"ran": ["program", "ticks"], "ran_codes": ["codes", "ticks"], "first_unlike": ["one", "other", "ticks"],
+             "traffic": ["codes", "ticks"]},
+    "plans": {"is_plan": ["thing"], "is_less": ["one", "other"], "plans": ["scan", "roots", "fresh"]},
 }
 
 CLASSES = {
@@ -26,6 +34,9 @@ CLASSES = {
     "programs": {"Program": {
         "__init__": ["modules", "main"], "__eq__": ["other"], "main": [], "modules": [], "module": ["name"],
         "order": [], "leads": ["name"], "with_module": ["name", "module"]}},
+    "machines": {"Machine": {
+        "__init__": ["codes", "ticks"], "step": [], "run": [], "told": [], "end": [], "left": [], "done": [],
+        "heap": [], "copied": []}},
 }
 
 

@@ -1,0 +1,65 @@
+"""Machines that run codes on a heap."""
+
+from reachkept.checking import is_sound
+from reachkept.codes import is_codes
+from reachkept.doings import do_next
+from reachkept.engines import started
+from reachkept.errors import Over, Wrong
+from reachkept.kinds import is_natural
+
+STILL = (((0, 0, "module", None, (("end",),)),), (0,))
+
+
+class Machine:
+    """A run of sound codes with so many ticks, which goes on op by op."""
+
+    def __init__(self, codes, ticks):
+        if not is_codes(codes) or not is_sound(codes):
+            raise Wrong(0)
+        if not is_natural(ticks):
+            raise Wrong(1)
+        self._engine = started(codes, ticks)
+
+    def step(self):
+        """Do the next op, and return the list of what was told by it."""
+        if self._engine.ending is not None:
+            raise Over()
+        many = len(self._engine.said)
+        do_next(self._engine)
+        return self._engine.said[many:]
+
+    def run(self):
+        """Do ops until the run has ended, and return the list of what was told by them."""
+        if self._engine.ending is not None:
+            raise Over()
+        many = len(self._engine.said)
+        while self._engine.ending is None:
+            do_next(self._engine)
+        return self._engine.said[many:]
+
+    def told(self):
+        """Return the list of all that was told."""
+        return list(self._engine.said)
+
+    def end(self):
+        """Return how the run has ended, or None."""
+        return self._engine.ending
+
+    def left(self):
+        """Return how many ticks are left."""
+        return self._engine.ticks
+
+    def heap(self):
+        """Return a copy of the Heap."""
+        return self._engine.cells.copied()
+
+    def done(self):
+        """Return how many ops were done."""
+        return self._engine.count
+
+    def copied(self):
+        """Return a Machine in the same state."""
+        # These codes have been checked, which need not be done once more.
+        other = Machine(STILL, 0)
+        other._engine = self._engine.copied()
+        return other
