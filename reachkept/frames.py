@@ -145,8 +145,7 @@ def _is_chain(codes, cells, sorts, waiting):
             return False
     if not waiting:
         return True
-    begun = _begun(cells)
-    if not begun or begun[-1] != ("at", waiting[-1]) or len(waiting) - 1 > 30:
+    if _begun(cells)[-1] != ("at", waiting[-1]) or len(waiting) - 1 > 30:
         return False
     for awaited, number in zip(waiting[:-1], waiting[1:]):
         code = codes[0][cells[number][CODE]]

@@ -73,7 +73,8 @@ class TestRegisters(Checking):
         self.has(codes(module(END, size=3), module(("other", 0, 0, 3), END), order=(1,)),
                  (1, 0, "code"), (1, 0, "register"))
         self.has(codes(module(END), make(END, size=1), module(("other", 0, 1, 9), END), order=(0, 2)), (2, 0, "code"))
-        self.has(codes(module(("other", 0, 7, 9), END)), (0, 0, "code"))
+        for named in (1, 7):
+            self.has(codes(module(("other", 0, named, 9), END)), (0, 0, "code"))
 
 
 class TestPlaces(Checking):

@@ -49,6 +49,11 @@ class TestCodes(Compiling):
         self.alike(top(("try", (("throw", ONE), ("tell", ONE), ("try", (), "e", ())), "e", (("throw", ONE), ("tell", ONE)))))
         self.alike(top(*tells(*[("next", call(maker(("yield", ONE), *body)))] * 2)))
 
+    def test_a_cell_alone(self):
+        self.alike(top(let("a", cell())))
+        self.alike(top(("do", cell())))
+        self.alike(top(let("a", cell(p=cell(q=cell())))))
+
     def test_deep_programs(self):
         self.alike(top(("tell", deep(400))))
         one = ("tell", ONE)
@@ -79,8 +84,10 @@ class TestAsReading(Compiling):
                     ("field", cell(p=name("a"), q=call(name("f"))), "p"),
                     call(make(("back", name("x")), givens="xy"), name("a"), call(name("f"))),
                     work("sub", name("a"), ("next", call(maker(("yield", call(name("f"))))))),
-                    call(name("a"), call(make(("put", "a", name("f")), ("back", NOTHING))))]:
-            self.alike(top(change, let("a", integer(3)), ("tell", one), ("tell", name("a"))))
+                    call(name("a"), call(make(("put", "a", name("f")), ("back", NOTHING)))),
+                    call(name("g"), call(make(("put", "g", NOTHING))), ONE), call(name("g"), ONE, call(make(("put", "g", NOTHING))))]:
+            self.alike(top(change, let("a", integer(3)), let("g", make(("back", name("y")), givens="xy")), ("tell", one),
+                           ("tell", name("a"))))
         store = ("store", name("c"), "p", call(make(("put", "c", cell(p=integer(9))), ("back", ONE))))
         result = self.alike(top(let("c", cell()), let("b", name("c")), store, ("tell", ("field", name("b"), "p")),
                                 ("tell", ("field", name("c"), "p"))))

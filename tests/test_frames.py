@@ -128,6 +128,16 @@ class TestStates(Frames):
         heap = longest()
         self.assertIs(self.put(heap, (0, 1, ("at", frames_of(heap, 2)[0]))), False)
 
+    def test_b_modules_behind_one_that_has_not_begun(self):
+        some = (tuple((0, 0, "module", None, (END,)) for _ in range(3)), (2, 0, 1))
+        heap = Machine(some, 0).heap()
+        self.assertIs(is_state(some, heap), True)
+        for value in [0, "w", ("at", 0), ("at", 1)]:
+            for field in (2, 3):
+                other = heap.copied()
+                other.put(0, field, value)
+                self.assertIs(is_state(some, other), False)
+
     def test_c_fields_of_frames(self):
         heap = longest()
         for code in [0, 1, 2, 3, 6]:
@@ -165,6 +175,12 @@ class TestStates(Frames):
         for code in [0, 1, 2, 6]:
             self.refuses(heap, frames_of(heap, code)[0], F3=[stepper, 0, ("at", 0)])
         self.refuses(heap, frames_of(heap, 3)[0], F3=[None, 0, ("at", 0), ("at", numbers(heap, "closure")[0]), GONE])
+        # The frame of a generator that is over still has it.
+        heap = states()[-1]
+        number = numbers(heap, "stepper")[0]
+        heap.put(number, 0, None)
+        self.assertIs(is_state(CODES, heap), True)
+        self.refuses(heap, frames_of(heap, 3)[0], F3=[None, 0, "w", ("at", 0), ("at", numbers(heap, "closure")[0]), GONE])
 
     def test_c_a_frame_of_a_module_that_the_root_does_not_name(self):
         heap = states()[-1]
@@ -283,6 +299,7 @@ class TestStates(Frames):
                       ("at", numbers(heap, "stepper")[0])]:
             self.assertIs(self.put(heap, (frame, 1, value), (cell, "g", value)), True)
         for value in [("at", 0), ("at", frame), heap.get(0, 1), GONE]:
+            self.assertIs(self.put(heap, (frame, 0, value)), False)
             self.assertIs(self.put(heap, (frame, 1, value)), False)
             self.assertIs(self.put(heap, (cell, "g", value)), False)
         # A cell that is gone, of which something is left.

@@ -24,6 +24,15 @@ FUNCTIONS = {
     "runs": {"ran": ["program", "ticks"], "ran_codes": ["codes", "ticks"], "first_unlike": ["one", "other", "ticks"],
              "traffic": ["codes", "ticks"]},
     "plans": {"is_plan": ["thing"], "is_less": ["one", "other"], "plans": ["scan", "roots", "fresh"]},
+    "courses": {"played": ["heap", "roots", "plan", "steps"], "next_steps": ["course"],
+                "collected": ["heap", "roots", "plan"]},
+    "keeping": {"keeps": ["plan"], "hides": ["plan"], "is_loss": ["plan", "heap", "roots", "thing"], "loss": ["plan"],
+                "least_plans": ["scan", "roots", "fresh"], "mended": ["plan"]},
+    "nursery": {"is_young_plan": ["thing"], "keeps_young": ["plan"],
+                "is_young_loss": ["plan", "heap", "roots", "thing"], "young_loss": ["plan"]},
+    "traces": {"is_trace": ["thing"], "is_start": ["size", "thing"], "gone": ["trace", "start"]},
+    "judging": {"do_same": ["one", "other"], "is_parting": ["one", "other", "thing"], "parting": ["one", "other"],
+                "met_steps": ["trace"], "start_to": ["trace", "index"], "word_at": ["trace", "index"]},
 }
 
 CLASSES = {
@@ -37,6 +46,12 @@ CLASSES = {
     "machines": {"Machine": {
         "__init__": ["codes", "ticks"], "step": [], "run": [], "told": [], "end": [], "left": [], "done": [],
         "heap": [], "copied": []}},
+    "courses": {"Course": {
+        "__init__": ["heap", "roots", "plan"], "do": ["step"], "heap": [], "colours": [], "open_fields": ["number"],
+        "lost": [], "steps": [], "copied": []}},
+    "nursery": {"Nursery": {
+        "__init__": ["heap", "roots", "plan"], "do": ["step"], "heap": [], "lost": [], "steps": [], "copied": [],
+        "ages": [], "remembered": []}},
 }
 
 

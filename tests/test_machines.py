@@ -150,6 +150,12 @@ class TestOps(Machines):
         machine = self.machine(lib, top, inner, within, order=(0, 1))
         self.assertEqual([machine.run(), machine.end()], [[10, 20], ("done",)])
 
+    def test_other_of_several_modules(self):
+        keeps = [module(("keep", 0, value), END) for value in (5, 6)]
+        top = module(("other", 1, 1, 0), ("tell", 1), ("other", 1, 0, 0), ("tell", 1), END)
+        self.assertEqual(self.machine(*keeps, top, order=(0, 1, 2)).run(), [6, 5])
+        self.assertEqual(self.machine(*keeps, top, order=(1, 0, 2)).run(), [6, 5])
+
     def test_jumps(self):
         self.tells([1], ("jump", 2), ("tell", 0), ("keep", 0, 1), ("tell", 0))
         for value, expected in [(0, [2]), (None, [2]), (1, [1, 2]), (-1, [1, 2]), ("w", [1, 2])]:
@@ -395,6 +401,7 @@ class TestTheMachineItself(Machines):
         machine.run()
         self.assertEqual([cells(machine), machine.told(), machine.end(), machine.left(), machine.done()],
                          [cells(other), other.told(), other.end(), other.left(), other.done()])
+        self.assertEqual([other.copied().told(), other.copied().end()], [["cell", 5], ("done",)])
         with self.assertRaises(Over):
             other.copied().step()
 
