@@ -70,7 +70,7 @@ class Course:
     def copied(self):
         """Return a Course in the same state."""
         other = Course(self._stand.cells, self._stand.roots, self._stand.rules)
-        other._stand = self._stand.copied()
+        other._stand = self._stand.copied_on(self._stand.cells.copied())
         other._lacking = list(self._lacking)
         other._trail = list(self._trail)
         return other

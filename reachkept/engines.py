@@ -27,9 +27,9 @@ class Engine:
         self.ending = None
         self.count = 0
 
-    def copied(self):
-        """Return an Engine like this one that goes on by itself."""
-        other = Engine(self.guide, self.ticks, self.cells.copied())
+    def copied_on(self, cells):
+        """Return an Engine like this one that goes on by itself, on a copy of its cells."""
+        other = Engine(self.guide, self.ticks, cells)
         other.said = list(self.said)
         other.ending = self.ending
         other.count = self.count
@@ -151,7 +151,11 @@ class Engine:
 
 def started(codes, ticks):
     """Return an Engine of sound codes in which the first module has begun."""
-    cells = Heap()
+    return started_on(Heap(), codes, ticks)
+
+
+def started_on(cells, codes, ticks):
+    """Return such an Engine on a Heap that is still empty."""
     cells.new({SORT: "root", 0: None})
     for at in range(len(codes[1])):
         cells.put(0, 1 + at, None)

@@ -77,6 +77,10 @@ class Heap:
             raise Gone(min(missing))
         return sorted(found)
 
+    def named_by(self, number):
+        """Return the list of the numbers of cells that the fields of a cell that is there name, in no order."""
+        return [value[1] for value in self._cells[number].values() if isinstance(value, tuple)]
+
     def copied(self):
         """Return a Heap like this one that goes on by itself."""
         other = Heap()
@@ -93,6 +97,14 @@ class Heap:
         missing = [value[1] for value in values if is_at(value) and value[1] not in self._cells]
         if missing:
             raise Gone(min(missing))
+
+
+def heap_of(cells):
+    """Return a Heap with cells by their numbers, dicts of fields, whose next cell is behind the greatest."""
+    heap = Heap()
+    heap._cells = {number: dict(cells[number]) for number in sorted(cells)}
+    heap._made = max([-1] + list(cells)) + 1
+    return heap
 
 
 def _is_field(thing):

@@ -18,48 +18,61 @@ class Machine:
             raise Wrong(0)
         if not is_natural(ticks):
             raise Wrong(1)
-        self._engine = started(codes, ticks)
+        self.engine = started(codes, ticks)
 
     def step(self):
         """Do the next op, and return the list of what was told by it."""
-        if self._engine.ending is not None:
+        if self.engine.ending is not None:
             raise Over()
-        many = len(self._engine.said)
-        do_next(self._engine)
-        return self._engine.said[many:]
+        many = len(self.engine.said)
+        do_next(self.engine)
+        return self.engine.said[many:]
 
     def run(self):
         """Do ops until the run has ended, and return the list of what was told by them."""
-        if self._engine.ending is not None:
+        if self.engine.ending is not None:
             raise Over()
-        many = len(self._engine.said)
-        while self._engine.ending is None:
-            do_next(self._engine)
-        return self._engine.said[many:]
+        many = len(self.engine.said)
+        while self.engine.ending is None:
+            do_next(self.engine)
+        return self.engine.said[many:]
 
     def told(self):
         """Return the list of all that was told."""
-        return list(self._engine.said)
+        return list(self.engine.said)
 
     def end(self):
         """Return how the run has ended, or None."""
-        return self._engine.ending
+        return self.engine.ending
 
     def left(self):
         """Return how many ticks are left."""
-        return self._engine.ticks
+        return self.engine.ticks
 
     def heap(self):
         """Return a copy of the Heap."""
-        return self._engine.cells.copied()
+        return self.engine.cells.copied()
 
     def done(self):
         """Return how many ops were done."""
-        return self._engine.count
+        return self.engine.count
 
     def copied(self):
         """Return a Machine in the same state."""
-        # These codes have been checked, which need not be done once more.
-        other = Machine(STILL, 0)
-        other._engine = self._engine.copied()
-        return other
+        return machine_on(self.engine.copied_on(self.engine.cells.copied()))
+
+    def coming(self):
+        """Return the tuple (frame, code, op) of what is done next, or None if the run has ended."""
+        if self.engine.ending is not None:
+            return None
+        frame = self.engine.running_frame()
+        code, op = self.engine.where(frame)
+        return frame, code, op
+
+
+def machine_on(engine):
+    """Return a Machine that goes on with an Engine."""
+    # These codes have been checked, which need not be done once more.
+    machine = Machine(STILL, 0)
+    machine.engine = engine
+    return machine

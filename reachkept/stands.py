@@ -1,5 +1,7 @@
 """Stands: cells, roots and a plan, with what a collector has marked; and what cells lead to."""
 
+from heapq import heappop, heappush
+
 from reachkept.kinds import is_at, is_integer, is_name, is_value
 
 SHADES = ("black", "grey", "white")
@@ -9,7 +11,7 @@ class Stand:
     """A Heap, roots in it and a plan; while it is marking, each cell has a shade.
 
     The Heap is the very one that is handed in. Unscanned has for each grey cell a dict from its open
-    fields to True.
+    fields to True; queue has all grey cells, for the sake of the least one, and others that were grey.
     """
 
     def __init__(self, cells, roots, rules):
@@ -19,18 +21,26 @@ class Stand:
         self.marking = False
         self.shades = {}
         self.unscanned = {}
+        self.queue = []
 
-    def copied(self):
-        """Return a Stand like this one that goes on by itself."""
-        other = Stand(self.cells.copied(), self.roots, self.rules)
+    def copied_on(self, cells):
+        """Return a Stand like this one that goes on by itself, on a copy of its cells."""
+        other = Stand(cells, self.roots, self.rules)
         other.marking = self.marking
         other.shades = dict(self.shades)
         other.unscanned = {number: dict(self.unscanned[number]) for number in self.unscanned}
+        other.queue = list(self.queue)
         return other
 
     def grey_cells(self):
         """Return the ascending list of the grey cells."""
         return sorted(self.unscanned)
+
+    def least_grey_cell(self):
+        """Return the least grey cell, where there is one."""
+        while self.queue[0] not in self.unscanned:
+            heappop(self.queue)
+        return self.queue[0]
 
     def begin(self):
         """Begin marking."""
@@ -58,24 +68,38 @@ class Stand:
     def grow(self):
         """Make a new cell without fields and return its number."""
         number = self.cells.new({})
+        self.meet(number)
+        return number
+
+    def meet(self, number):
+        """Do what the plan tells of a new cell."""
         if self.marking:
             self.shades[number] = self.rules[2]
             if self.rules[2] == "grey":
-                self.unscanned[number] = {}
-        return number
+                self._make_grey(number)
 
     def put(self, number, field, value):
         """Give a field of a cell a value, and do what the plan tells of this."""
-        lot = self._lot(number)
-        had = self.cells.has(number, field)
-        if "old" in lot and had:
-            self._shade_value(self.cells.get(number, field))
+        before = (self.cells.get(number, field),) if self.cells.has(number, field) else ()
         self.cells.put(number, field, value)
+        self.mind(number, field, before, value)
+
+    def mind(self, number, field, before, value):
+        """Do what the plan tells of a put into a field with a tuple of the value that it had, if there was one.
+
+        More fields may have been put by now, for which this is called later: where a cell becomes grey,
+        they are open ahead of time, and are so in the end all the same.
+        """
+        if not self.marking:
+            return
+        lot = self._lot(number)
+        if "old" in lot and before:
+            self._shade_value(before[0])
         if "new" in lot:
             self._shade_value(value)
         if "back" in lot and is_at(value):
             self._make_grey(number)
-        if number in self.unscanned and not had:
+        if number in self.unscanned and not before:
             self.unscanned[number][field] = True
 
     def finish(self):
@@ -83,25 +107,28 @@ class Stand:
         if self.rules[1] == "again":
             self._shade_held_by_roots()
             while self.unscanned:
-                number = self.grey_cells()[0]
-                self._shade_held(number)
-                self._blacken(number)
+                for number in self.grey_cells():
+                    self._shade_held(number)
+                    self._blacken(number)
         freed = [number for number in sorted(self.shades) if self.shades[number] == "white"]
-        kept = reached_from(self.cells, self.roots)
+        # Nothing can be lost where nothing is freed, and what is reached need not be looked for.
+        kept = reached_from(self.cells, self.roots) if freed else {}
         self.cells.free(freed)
         self.marking = False
         self.shades = {}
+        self.queue = []
         return freed, [number for number in freed if number in kept]
 
     def _lot(self, number):
         """Return what is done at a put into a cell."""
-        if not self.marking or (self.rules[1] != "kept" and number in self.roots):
+        if self.rules[1] != "kept" and number in self.roots:
             return ()
         return self.rules[3 + SHADES.index(self.shades[number])]
 
     def _make_grey(self, number):
         self.shades[number] = "grey"
         self.unscanned[number] = {field: True for field in self.cells.fields(number)}
+        heappush(self.queue, number)
 
     def _blacken(self, number):
         self.shades[number] = "black"
@@ -116,8 +143,8 @@ class Stand:
             self._shade(value[1])
 
     def _shade_held(self, number):
-        for value in self.cells.fields(number).values():
-            self._shade_value(value)
+        for other in self.cells.named_by(number):
+            self._shade(other)
 
     def _shade_held_by_roots(self):
         for root in self.roots:
@@ -136,7 +163,7 @@ def reached_from(cells, numbers):
         number = waiting.pop()
         if number in there and number not in found:
             found[number] = True
-            waiting.extend([value[1] for value in cells.fields(number).values() if is_at(value)])
+            waiting.extend(cells.named_by(number))
     return found
 
 

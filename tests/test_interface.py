@@ -33,6 +33,18 @@ FUNCTIONS = {
     "traces": {"is_trace": ["thing"], "is_start": ["size", "thing"], "gone": ["trace", "start"]},
     "judging": {"do_same": ["one", "other"], "is_parting": ["one", "other", "thing"], "parting": ["one", "other"],
                 "met_steps": ["trace"], "start_to": ["trace", "index"], "word_at": ["trace", "index"]},
+    "shortening": {"without": ["trace", "index"], "with_step": ["trace", "index", "step"], "swapped": ["trace", "index"],
+                   "may_drop": ["trace", "index"], "may_put": ["trace", "index", "step"],
+                   "may_swap": ["trace", "index"], "idle_steps": ["trace"], "lean": ["trace"],
+                   "copies": ["trace", "index"], "constants": ["trace", "index"]},
+    "weaving": {"joined": ["one", "other"], "renamed": ["trace", "registers"], "narrowed": ["trace", "kept"],
+                "parted_by": ["one", "other", "kept"]},
+    "recording": {"trace_at": ["codes", "code", "op", "truths"], "truths_of": ["machine"],
+                  "fits": ["codes", "code", "op", "truths", "trace"], "way_lean": ["codes", "code", "op", "truths"]},
+    "manners": {"ran_led": ["program", "ticks", "plan", "schedule"],
+                "ran_traced": ["program", "ticks", "plan", "schedule"],
+                "all_manners": ["program", "ticks", "plan", "schedule"],
+                "greatest": ["program", "ticks", "plan", "schedule"]},
 }
 
 CLASSES = {
@@ -52,6 +64,10 @@ CLASSES = {
     "nursery": {"Nursery": {
         "__init__": ["heap", "roots", "plan"], "do": ["step"], "heap": [], "lost": [], "steps": [], "copied": [],
         "ages": [], "remembered": []}},
+    "led": {"Led": {
+        "__init__": ["codes", "ticks", "plan", "schedule"], "step": [], "run": [], "told": [], "end": [], "left": [],
+        "done": [], "heap": [], "copied": [], "lost": [], "laid": [], "colours": [], "ended": [], "freed": [],
+        "lay": ["code", "op", "truths", "trace"]}},
 }
 
 

@@ -107,6 +107,9 @@ class TestLanguage(unittest.TestCase):
             for node in ast.walk(tree):
                 if isinstance(node, ast.ImportFrom):
                     self.assertEqual(node.level, 0)
+                    if node.module == "heapq":
+                        self.assertEqual({alias.name for alias in node.names} - {"heappush", "heappop"}, set(), name)
+                        continue
                     self.assertTrue(node.module.startswith("reachkept."), (name, node.module))
                     self.assertTrue(all(node.lineno < other.lineno for other in others[1:]), name)
                     home = node.module.split(".")[1] + ".py"
@@ -158,9 +161,24 @@ class TestLanguage(unittest.TestCase):
                     if node.attr.startswith("__"):
                         self.assertEqual(node.attr, "__init__", name)
                 if isinstance(node, ast.Name) and isinstance(node.ctx, ast.Load) and node.id in dir(builtins):
-                    self.assertIn(node.id, BUILTINS + ERRORS, (name, node.lineno))
+                    self.assertIn(node.id, BUILTINS + ERRORS + ["super"], (name, node.lineno))
                 if isinstance(node, ast.Name) and node.id == "_":
                     self.assertIsInstance(node.ctx, ast.Store, (name, node.lineno))
+
+    def test_super_is_called_for_a_method_in_a_method(self):
+        for name, tree in trees():
+            allowed = []
+            for home in [node for node in tree.body if isinstance(node, ast.ClassDef)]:
+                for method in [node for node in home.body if isinstance(node, ast.FunctionDef)]:
+                    for node in ast.walk(method):
+                        if isinstance(node, ast.Call) and isinstance(node.func, ast.Attribute):
+                            inner = node.func.value
+                            if isinstance(inner, ast.Call) and isinstance(inner.func, ast.Name) and not inner.args:
+                                if not node.func.attr.startswith("__") or node.func.attr == method.name == "__init__":
+                                    allowed.append(inner.func)
+            for node in ast.walk(tree):
+                if isinstance(node, ast.Name) and node.id == "super":
+                    self.assertIn(node, allowed, (name, node.lineno))
 
     def test_classes_and_builtins_are_called_where_they_stand(self):
         for name, tree in trees():
@@ -205,6 +223,9 @@ class TestLanguage(unittest.TestCase):
                 if isinstance(node, ast.Call) and isinstance(node.func, ast.Name):
                     if node.func.id in ("sorted", "len", "list", "tuple", "dict", "min", "max", "sum"):
                         allowed.extend(node.args)
+                    if node.func.id == "reversed":
+                        allowed.extend(one for one in node.args if isinstance(one, ast.Call)
+                                       and isinstance(one.func, ast.Name) and one.func.id == "range")
                 if isinstance(node, (ast.For, ast.comprehension)):
                     allowed.append(node.iter)
             for node in ast.walk(tree):
