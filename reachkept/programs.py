@@ -1,8 +1,9 @@
 """Programs: modules by their names, with a main one."""
 
-from reachkept.errors import Fixed, Loose, Misplaced, Missing, NoExport, NoModule, Round, Wrong
+from reachkept.errors import NoModule, Wrong
 from reachkept.forms import is_module
 from reachkept.kinds import is_name
+from reachkept.refusals import raise_refusal
 from reachkept.scopes import loose, misplaced, outward, owned
 
 
@@ -14,7 +15,7 @@ class Program:
             raise Wrong(0)
         if not is_name(main):
             raise Wrong(1)
-        _check(modules, main)
+        raise_refusal(refusal(modules, main))
         self._modules = dict(modules)
         self._main = main
 
@@ -93,30 +94,26 @@ def _led_to(modules, name):
     return sorted(found)
 
 
-def _check(modules, main):
-    """Raise the first error, in the order of the document, that modules and a main one have."""
+def refusal(modules, main):
+    """Return the tuple of the name and the arguments of the first error that modules and a main one have.
+
+    It is empty where they have none. There may be no modules here.
+    """
     missing = _missing(modules, main)
     if missing:
-        raise Missing(min(missing))
+        return "Missing", min(missing)
     rounds = [name for name in modules if name in _led_to(modules, name)]
     if rounds:
-        raise Round(min(rounds))
-    unlent = _not_exported(modules)
-    if unlent:
-        home, name = min(unlent)
-        raise NoExport(home, name)
-    unbound = [(home, name) for home in modules for name in _loose_in(modules[home])]
-    if unbound:
-        home, name = min(unbound)
-        raise Loose(home, name)
-    fixed = [(home, name) for home in modules for name in _fixed_in(modules[home])]
-    if fixed:
-        home, name = min(fixed)
-        raise Fixed(home, name)
-    astray = [(home, word) for home in modules for word in misplaced(modules[home][2], "module")]
-    if astray:
-        home, word = min(astray)
-        raise Misplaced(home, word)
+        return "Round", min(rounds)
+    for word, found in (
+        ("NoExport", _not_exported(modules)),
+        ("Loose", [(home, name) for home in modules for name in _loose_in(modules[home])]),
+        ("Fixed", [(home, name) for home in modules for name in _fixed_in(modules[home])]),
+        ("Misplaced", [(home, word) for home in modules for word in misplaced(modules[home][2], "module")]),
+    ):
+        if found:
+            return (word,) + min(found)
+    return ()
 
 
 def _missing(modules, main):

@@ -45,6 +45,12 @@ FUNCTIONS = {
                 "ran_traced": ["program", "ticks", "plan", "schedule"],
                 "all_manners": ["program", "ticks", "plan", "schedule"],
                 "greatest": ["program", "ticks", "plan", "schedule"]},
+    "images": {"image": ["machine"], "machine_of": ["thing"], "moved": ["machine"],
+               "alike_machines": ["one", "other"]},
+    "notation": {"show_expression": ["one"], "show_body": ["body"], "show_program": ["program"], "show_plan": ["plan"],
+                 "show_step": ["step"], "show_trace": ["trace"], "show_codes": ["codes"]},
+    "readers": {"read_expression": ["text"], "read_body": ["text"], "read_program": ["text"], "read_plan": ["text"],
+                "read_step": ["text"], "read_trace": ["text"], "read_codes": ["text"]},
 }
 
 CLASSES = {
@@ -68,6 +74,14 @@ CLASSES = {
         "__init__": ["codes", "ticks", "plan", "schedule"], "step": [], "run": [], "told": [], "end": [], "left": [],
         "done": [], "heap": [], "copied": [], "lost": [], "laid": [], "colours": [], "ended": [], "freed": [],
         "lay": ["code", "op", "truths", "trace"]}},
+    "journals": {"Journal": {
+        "__init__": ["codes", "ticks"], "__len__": [], "machine": [], "on": ["many"], "to": ["code", "op"],
+        "back": ["many"], "again": [], "last_put": ["number", "field"], "tellers": [], "at_op": ["number"]}},
+    "houses": {"House": {
+        "__init__": ["program"], "__eq__": ["other"], "__len__": [], "do": ["deed"], "program": [], "plan": [],
+        "schedule": [], "claims": [], "log": [], "run": ["ticks"], "back": [], "again": [], "copied": [],
+        "trial": ["deeds"]}},
+    "desk": {"Desk": {"__init__": ["program"], "execute": ["line"], "house": []}},
 }
 
 

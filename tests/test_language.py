@@ -5,6 +5,7 @@ It looks for less than the subset allows: what the package does not need is refu
 
 import ast
 import builtins
+import functools
 import pathlib
 import unittest
 
@@ -20,7 +21,7 @@ BUILTINS = ["len", "range", "enumerate", "zip", "min", "max", "sum", "abs", "sor
             "list", "tuple", "dict", "set", "isinstance", "ord", "any", "all", "divmod"]
 ERRORS = ["ValueError"]
 METHODS = ["append", "clear", "copy", "count", "endswith", "extend", "find", "get", "index", "insert", "isalpha",
-           "isdigit", "items", "join", "keys", "pop", "remove", "replace", "reverse", "setdefault", "split",
+           "isdigit", "items", "join", "keys", "partition", "pop", "remove", "replace", "reverse", "setdefault", "split",
            "splitlines", "startswith", "strip", "update", "values"]
 SPECIAL = ["__init__", "__eq__", "__len__"]
 BARRED = ["register", "mro", "elements", "open", "input", "law", "version_info", "with_traceback", "add_note",
@@ -33,6 +34,7 @@ TAKEN = {key for thing in ("", 0, [], {}, set(), b"", (), range(1)) for key in d
 FREE = ["count", "index", "title", "find", "get", "join", "lower", "upper", "split", "strip", "copy", "add"]
 
 
+@functools.lru_cache
 def trees():
     return [(path.name, ast.parse(path.read_text(encoding="ascii"))) for path in FILES]
 

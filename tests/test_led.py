@@ -10,7 +10,7 @@ from reachkept.led import Led
 from reachkept.machines import Machine
 from reachkept.plans import plans
 from reachkept.recording import trace_at, truths_of, way_lean
-from tests.follower import Follower
+from tests.follower import Follower, Tracer
 from tests.loops import looping
 from tests.made import made
 from tests.test_recording import LOOP, alone
@@ -418,6 +418,35 @@ class TestTraces(unittest.TestCase):
         self.assertEqual(truths_of(stepped(Led(LOOP, 9, KEPT, (1,)), 1)), [True])
         with self.assertRaises(NoTrace):
             truths_of(led)
+
+    def test_traces_against_a_second_one(self):
+        chance = random.Random(7)
+        gone_through = lost = 0
+        for seed in range(250):
+            codes = compiled(looping(seed))
+            plan, schedule = chance.choice(PLANS), [chance.choice([0, 1, 2, 3, 9]) for _ in range(chance.randint(1, 4))]
+            led, other = Led(codes, 30, plan, schedule), Tracer(codes, 30, plan, schedule)
+            for code in range(len(codes[0])):
+                for op in range(len(codes[0][code][4])):
+                    for truths in ([True], [True, True], [True, False]):
+                        try:
+                            trace = chance.choice([trace_at(codes, code, op, truths), way_lean(codes, code, op, truths)])
+                        except NoTrace:
+                            continue
+                        trace = (trace[0] + chance.randrange(2), trace[1], trace[2])
+                        led.lay(code, op, truths, trace)
+                        other.traces[code, op] = trace
+            while led.end() is None and led.done() < 90:
+                gone_through += other.awaited is not None
+                self.assertEqual(led.step(), other.step(), seed)
+                cells = led.heap()
+                self.assertEqual({number: cells.fields(number) for number in cells.numbers()}, other.collector.cells)
+                self.assertEqual((led.end(), led.lost(), led.colours(), led.ended(), led.freed(), led.done()),
+                                 (other.end(), other.collector.lost, other.collector.colours or {}, other.ended,
+                                  other.freed, other.machine.done()), (seed, plan, schedule))
+            lost += led.end() == ("lost",)
+        self.assertGreater(gone_through, 300)
+        self.assertGreater(lost, 5)
 
     def test_lying_traces_change_nothing_that_is_told(self):
         chance = random.Random(6)
