@@ -50,7 +50,7 @@ def outcome(state, deed):
         return ("NoDeed",), state
     action = DOINGS[deed[0]]
     refused, further = action(state, deed)
-    return refused, state if refused else further
+    return refused, (state if refused else further)
 
 
 def _is_part(form, thing):

@@ -112,7 +112,8 @@ def _is_frame(codes, cells, sorts, met, number):
     if not is_integer(code) or not 0 <= code < len(codes[0]):
         return False
     _, size, kind, outer, _ = codes[0][code]
-    if list(fields) != list(LEADING) + list(range(size)):
+    # The size comes first: it may be far greater than what can be listed.
+    if len(fields) != len(LEADING) + size or list(fields) != list(LEADING) + list(range(size)):
         return False
     if not is_integer(fields[PLACE]) or fields[PLACE] not in met[code]:
         return False

@@ -2,14 +2,18 @@
 
 from reachkept.errors import Unlike
 from reachkept.likeness import matched
-from reachkept.traces import gone, is_start
+from reachkept.traces import gone, is_start, registers_of, renamed_step
 from reachkept.ways import ways
 from reachkept.worlds import World
 
 
 def do_same(one, other):
     """Tell whether the runs of two traces end alike from all starts."""
-    return parting(one, other) is None
+    _must_be_like(one, other)
+    # Registers that are neither used nor kept are left out: there may be more than can be gone through.
+    used = sorted(set(list(one[1]) + [place for step in one[2] + other[2] for place in registers_of(step)]))
+    places = {place: at for at, place in enumerate(used)}
+    return parting(_narrow(one, places), _narrow(other, places)) is None
 
 
 def parting(one, other):
@@ -51,6 +55,12 @@ def word_at(trace, index):
     if index not in met:
         return "always"
     return "left" if max(met) == index else "open"
+
+
+def _narrow(trace, places):
+    """Return a trace with just those of its registers that have places, and at these."""
+    _, kept, steps = trace
+    return len(places), tuple([places[place] for place in kept]), tuple([renamed_step(step, places) for step in steps])
 
 
 def _must_be_like(one, other):

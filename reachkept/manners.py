@@ -25,7 +25,7 @@ def ran_traced(program, ticks, plan, schedule):
         if place is not None and is_turn(codes, place[1], place[2]):
             met[place] = met.get(place, 0) + 1
             if met[place] == 2:
-                _lay_ahead(led, codes, place)
+                _try_to_lay(led, codes, place)
         led.step()
     return led.told(), led.end(), led.left()
 
@@ -52,7 +52,7 @@ def greatest(program, ticks, plan, schedule):
     return most
 
 
-def _lay_ahead(led, codes, place):
+def _try_to_lay(led, codes, place):
     """Lay the lean trace of the way that a Led machine goes from a turn, if there is a small one."""
     _, code, op = place
     if (code, op) in led.laid() or codes[0][code][1] > 6:

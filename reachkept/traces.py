@@ -62,6 +62,17 @@ def gone(trace, start):
     return left, walk.said, walk.cells, walk.worths
 
 
+def registers_of(step):
+    """Return the list of the registers of a step."""
+    return [part for form, part in zip(STEPS[step[1]], step[2:]) if form == "register"]
+
+
+def renamed_step(step, places):
+    """Return a step with other registers in the place of its own ones, a list or dict telling which."""
+    rest = [places[part] if form == "register" else part for form, part in zip(STEPS[step[1]], step[2:])]
+    return step[:2] + tuple(rest)
+
+
 def _is_step(thing, size):
     if not isinstance(thing, tuple) or len(thing) < 2 or not is_natural(thing[0]) or not isinstance(thing[1], str):
         return False

@@ -158,6 +158,14 @@ class TestQuestions(Base):
         self.assertEqual(sorted(set(answers)), ["no", "yes"])
         for line in ("same 1 - / 2 -", "same 1 0 / 1 -", "same 2 0 ; 0 tell 0 / 2 1 ; 0 tell 0"):
             self.assertEqual(desk.execute(line), "refused Unlike")
+        size = "1" + "0" * 39
+        for line, answer in (("lean {} -", "{} -"), ("lean {} 3 ; 0 tell 7 ; 1 move 3 3", "{} 3 ; 0 tell 7"), ("same {} - / {} -", "yes"),
+                             ("same {} - ; 0 tell 7 / {} - ; 0 tell 8", "no"), ("same {} - / 1 -", "refused Unlike"), ("run {}", None),
+                             ("claim {} done", None), ("free {}", "refused NoNumber"), ("schedule {}", None)):
+            if answer is None:
+                self.refuses(desk, line.format(size))
+            else:
+                self.assertEqual(desk.execute(line.replace("{}", size)), answer.format(size))
         self.assertEqual([desk.execute("same 1 - / 1 -"), desk.execute("lean 1 -"), desk.execute("lean 1 0 ; 0 move 0 0")], ["yes", "1 -", "1 0"])
 
 

@@ -120,6 +120,13 @@ class TestWhatIsNoImage(unittest.TestCase):
         for codes in (LOOP, alone(5, ("tell", 0)), (CODES[0], ()), list(CODES), ((TOP, MAKER, MAKE), (0,)),
                       ((TOP, MAKE), (0,))):
             self.refuses(part(self.thing, 0, codes))
+        # Ops that are not met, one of which is at fault.
+        for op, sound in ((("move", 0, 4), True), (("move", 0, 5), False), (("jump", 99), False), (("close", 0, 0), False)):
+            codes = ((TOP[:4] + (TOP[4] + (op,),), MAKE, MAKER), (0,))
+            if sound:
+                self.assertEqual(image(machine_of(part(self.thing, 0, codes)))[0], codes)
+            else:
+                self.refuses(part(self.thing, 0, codes))
 
     def test_cells(self):
         cells = self.thing[1]
@@ -171,6 +178,13 @@ class TestWhatIsNoImage(unittest.TestCase):
         self.assertEqual((machine.end(), machine.left() > 0), (("ticks",), True))
         with self.assertRaises(Over):
             machine.step()
+
+    def test_sizes_that_the_frames_have_not(self):
+        for size in (4, 6, 10 ** 6, 10 ** 39):
+            codes = ((TOP[:1] + (size,) + TOP[2:], MAKE, MAKER), (0,))
+            self.refuses(part(self.thing, 0, codes))
+        codes = ((TOP, MAKE, MAKER, (0, 10 ** 39, "make", 0, (("end",),))), (0,))
+        self.assertEqual(machine_of(part(self.thing, 0, codes)).left(), self.thing[4])
 
     def test_left_and_done(self):
         for place in (4, 5):

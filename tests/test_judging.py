@@ -405,5 +405,15 @@ class TestByChance(Judging):
                 self.check(one, other)
 
 
+class TestSizesBeyondAllBounds(unittest.TestCase):
+    def test_registers_that_are_not_used_do_not_count(self):
+        for size in (10 ** 9, 10 ** 39):
+            one = (size, (1,), ((0, "tell", size - 1), (1, "keep", 1, 2)))
+            self.assertTrue(do_same(one, one))
+            self.assertFalse(do_same(one, (size, (1,), ((0, "tell", size - 2), (1, "keep", 1, 2)))))
+            self.assertTrue(do_same((size, (), ()), (size, (), ())))
+            self.assertFalse(do_same((size, (5, size - 1), ()), (size, (5, size - 1), ((0, "move", 5, size - 1),))))
+
+
 if __name__ == "__main__":
     unittest.main()

@@ -7,6 +7,7 @@ import ast
 import builtins
 import functools
 import pathlib
+import re
 import unittest
 
 PACKAGE = pathlib.Path(__file__).resolve().parent.parent / "reachkept"
@@ -166,6 +167,31 @@ class TestLanguage(unittest.TestCase):
                     self.assertIn(node.id, BUILTINS + ERRORS + ["super"], (name, node.lineno))
                 if isinstance(node, ast.Name) and node.id == "_":
                     self.assertIsInstance(node.ctx, ast.Store, (name, node.lineno))
+
+    def test_names_that_the_language_bars(self):
+        begins = ("_wall", "_pe_", "_dcw_", "_enum_", "_cm_", "_twin_re_", "_lay_", "_law_", "_stub_", "_sre", "_WallAttr", "__")
+        whole = ("_cold", "_tuplegetter", "_outside", "_record", "_written_out", "_member_names")
+        for name, node in nodes():
+            found = []
+            if isinstance(node, (ast.FunctionDef, ast.ClassDef)):
+                found.append(node.name)
+            if isinstance(node, ast.Name):
+                found.append(node.id)
+            if isinstance(node, ast.arg):
+                found.append(node.arg)
+            if isinstance(node, ast.Attribute):
+                found.append(node.attr)
+            for one in found:
+                if one not in SPECIAL:
+                    self.assertFalse(one.startswith(begins), (name, one))
+                    self.assertNotIn(one.rstrip("0123456789_"), whole, (name, one))
+
+    def test_words_that_the_language_bars(self):
+        barred = ["type", "typing", "typing_extensions", "enum", "Enum", "IntEnum", "StrEnum", "Flag", "IntFlag", "Generic", "Protocol", "ABC", "ABCMeta",
+                  "namedtuple", "NamedTuple", "TypedDict", "TYPE_CHECKING", "abstractmethod", "dataclass", "overload", "contextmanager"]
+        for path in FILES:
+            words = set(re.findall("[A-Za-z_]+", path.read_text(encoding="ascii")))
+            self.assertEqual(words & set(barred), set(), path.name)
 
     def test_super_is_called_for_a_method_in_a_method(self):
         for name, tree in trees():

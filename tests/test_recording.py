@@ -170,6 +170,14 @@ class TestTruthsOf(unittest.TestCase):
         with self.assertRaises(NoTrace):
             truths_of(to_turn(codes, 5))
 
+    def test_machines_that_are_at_no_turn(self):
+        machine = Machine(LOOP, 9)
+        with self.assertRaises(NoTrace):
+            truths_of(machine)
+        machine.run()
+        with self.assertRaises(NoTrace):
+            truths_of(machine)
+
     def test_a_machine_that_lacks_the_tick_of_the_next_round_has_come_back(self):
         machine = to_turn(LOOP, 3, 3)
         self.assertEqual((machine.left(), truths_of(machine)), (1, [True]))
