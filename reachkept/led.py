@@ -140,10 +140,9 @@ class Led(Machine):
                 self.engine.ending = ("lost",)
 
     def _do_op(self):
-        count = self.engine.count
         place = self.engine.where(self.engine.running_frame())
         do_next(self.engine)
-        if self.engine.count > count and place in self._traces:
+        if place in self._traces:
             self._awaited = place
 
 

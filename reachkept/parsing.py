@@ -10,7 +10,7 @@ a tuple of these behind the head, also a tuple.
 from reachkept.forms import is_body, is_expression, is_module
 from reachkept.kinds import is_name
 from reachkept.marks import integer_of
-from reachkept.shapes import EXPRESSIONS, KINDS, STATEMENTS, WORKS
+from reachkept.shapes import KINDS, WORKS, forms_of
 
 # What stands between which words, of which form.
 LISTS = {
@@ -89,7 +89,7 @@ def _read(reader, task):
     if form == "expression":
         return _read_expression(reader)
     if form == "statement":
-        return _read_headed(reader, STATEMENTS)
+        return _read_headed(reader, form)
     return _read_word(reader, form)
 
 
@@ -104,17 +104,18 @@ def _read_expression(reader):
     if word in WORKS:
         parts = [("read", part) for part in ("op", "expression", "expression")]
         return reader.await_all(parts + [("join", ("work",), front)])
-    return word != "integer" and _read_headed(reader, EXPRESSIONS)
+    return word != "integer" and _read_headed(reader, "expression")
 
 
-def _read_headed(reader, heads):
-    """Read a word of some heads, and all that stands behind it."""
+def _read_headed(reader, form):
+    """Read a word with which an expression or a statement begins, and all that stands behind it."""
     word = reader.ahead()
-    if word not in heads:
+    parts = forms_of(form, word)
+    if parts is None:
         return False
     reader.at += 1
     front = len(reader.things)
-    return reader.await_all([("read", part) for part in heads[word]] + [("join", (word,), front)])
+    return reader.await_all([("read", part) for part in parts] + [("join", (word,), front)])
 
 
 def _read_word(reader, form):

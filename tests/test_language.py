@@ -193,6 +193,36 @@ class TestLanguage(unittest.TestCase):
             words = set(re.findall("[A-Za-z_]+", path.read_text(encoding="ascii")))
             self.assertEqual(words & set(barred), set(), path.name)
 
+    def test_lists_and_dicts_at_module_level_are_only_read(self):
+        kept = {}
+        for name, tree in trees():
+            kept[name[:-3]] = [node.targets[0].id for node in tree.body if isinstance(node, ast.Assign)
+                               and isinstance(node.value, (ast.Dict, ast.List))]
+        for name, tree in trees():
+            own = list(kept[name[:-3]])
+            for node in tree.body:
+                if isinstance(node, ast.ImportFrom) and node.module.startswith("reachkept."):
+                    own += [alias.name for alias in node.names if alias.name in kept[node.module.split(".")[1]]]
+            allowed = []
+            for node in ast.walk(tree):
+                if isinstance(node, ast.Subscript):
+                    allowed.append(node.value)
+                if isinstance(node, ast.Call) and isinstance(node.func, ast.Attribute):
+                    if node.func.attr in ("get", "items", "keys", "values", "index", "count"):
+                        allowed.append(node.func.value)
+                if isinstance(node, ast.Call) and isinstance(node.func, ast.Name):
+                    if node.func.id in ("len", "list", "dict", "sorted", "tuple"):
+                        allowed.extend(node.args)
+                if isinstance(node, ast.Compare):
+                    allowed.extend(node.comparators)
+                if isinstance(node, (ast.For, ast.comprehension)):
+                    allowed.append(node.iter)
+            for node in ast.walk(tree):
+                if isinstance(node, ast.Name) and isinstance(node.ctx, ast.Load) and node.id in own:
+                    self.assertIn(node, allowed, (name, node.lineno, node.id))
+                if isinstance(node, ast.Subscript) and isinstance(node.value, ast.Name) and node.value.id in own:
+                    self.assertIsInstance(node.ctx, ast.Load, (name, node.lineno))
+
     def test_super_is_called_for_a_method_in_a_method(self):
         for name, tree in trees():
             allowed = []

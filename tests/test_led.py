@@ -131,6 +131,23 @@ class TestAsAMachine(unittest.TestCase):
         self.assertEqual((other.laid(), copy.laid()), ([], [(0, 1)]))
 
 
+    def test_copies_behind_what_was_freed_and_lost(self):
+        codes = alone(1, ("cell", 0), ("cell", 0), ("keep", 0, 1), ("keep", 0, 1), ("cell", 0), ("end",))
+        for plan, schedule in ((KEPT, (0, 0, 0, 5)), (("whole", "once", "white", (), (), ()), (0, 0, 0, 2, 1))):
+            led = Led(codes, 0, plan, schedule)
+            led.run()
+            other = led.copied()
+            self.assertGreater(led.freed(), 0)
+            for one in ("told", "end", "left", "done", "heap", "colours", "ended", "freed", "lost", "laid"):
+                self.assertEqual(getattr(led, one)(), getattr(other, one)(), one)
+            with self.assertRaises(Over):
+                other.step()
+            for one in (led, other):
+                with self.assertRaises(NoTrace):
+                    truths_of(one)
+        self.assertEqual(led.end(), ("lost",))
+
+
 class TestTheCollector(unittest.TestCase):
     def test_each_step_by_its_place_in_the_schedule(self):
         codes = alone(1, *[("keep", 0, 1)] * 9, ("end",))

@@ -1,5 +1,6 @@
 import random
 import unittest
+import unittest.mock
 
 from reachkept.compiling import compiled
 from reachkept.errors import NoTrace
@@ -136,7 +137,16 @@ class TestRanTraced(unittest.TestCase):
     def laid_by(self, program, ticks=50, plan=KEPT, schedule=(1,)):
         codes = compiled(program)
         found, laid = second(Led(codes, ticks, plan, schedule), codes)
-        self.assertEqual(ran_traced(program, ticks, plan, schedule), found)
+        plain, traces = Led.lay, []
+
+        def lay(led, code, op, truths, trace):
+            traces.append((code, op))
+            self.assertEqual(trace, lean(trace_at(codes, code, op, truths)))
+            return plain(led, code, op, truths, trace)
+
+        with unittest.mock.patch.object(Led, "lay", lay):
+            self.assertEqual(ran_traced(program, ticks, plan, schedule), found)
+        self.assertEqual(traces, laid)
         return laid
 
     def test_it_lays_at_the_second_time(self):
@@ -163,6 +173,19 @@ class TestRanTraced(unittest.TestCase):
         sizes = {many: compiled(names(many))[0][0][1] for many in range(9)}
         self.assertEqual([many for many in range(9) if self.laid_by(names(many))], [many for many in range(9) if sizes[many] <= 6])
         self.assertIn(6, sizes.values())
+
+    def test_loads_and_stores_count_together(self):
+        loads = lambda many, more: main(("let", "n", integer(5)), ("let", "c", ("cell", (("f", integer(1)),))), ("while", name("n"), (
+            ("store", name("c"), "f", name("n")),) * many + (("let", "a", ("field", name("c"), "f")),) * more + (down("n"),)))
+        self.assertEqual([(many, more) for many in range(5) for more in range(5) if self.laid_by(loads(many, more))],
+                         [(many, more) for many in range(5) for more in range(5 - many)])
+
+    def test_five_loads_and_stores_among_seven_steps_are_too_many(self):
+        ever = lambda stores, loads: main(("let", "c", ("cell", (("f", integer(1)),))), ("let", "n", integer(5)), ("while", integer(1), (
+            ("store", name("c"), "f", name("n")),) * stores + (("put", "n", ("field", name("c"), "f")),) * loads))
+        for stores in range(6):
+            for loads in range(6 - stores):
+                self.assertEqual(len(self.laid_by(ever(stores, loads))), 1 if stores + loads <= 4 else 0, (stores, loads))
 
     def test_ways_that_do_not_come_back(self):
         function = ("make", (), ())
